@@ -8,7 +8,10 @@ import (
 	"strings"
 	"testing"
 
+	"marline/api"
+	"marline/bits"
 	"marline/sync"
+	"marline/zero"
 )
 
 // chance gives numbers that look like chance, but are the same in every run.
@@ -296,6 +299,35 @@ func TestFeedOfAllShortSegments(t *testing.T) {
 	})
 }
 
+// checkLayers holds what a segment tells against what layers 6 and 1 make of it.
+func checkLayers(t *testing.T, segment string) {
+	t.Helper()
+	left, e := zero.Remove(row(segment))
+	octets, ok := bits.Octets(left)
+	want := sync.Segment{Kind: 0, Data: octets}
+	switch {
+	case e != api.OK:
+		want = sync.Segment{Kind: 2}
+	case !ok:
+		want = sync.Segment{Kind: 3}
+	}
+	if got := sync.New(100).Feed(row(flag + segment + flag)); !same(got, []sync.Segment{want}) {
+		t.Errorf("segment %s tells %v, want %v", segment, got, want)
+	}
+}
+
+func TestASegmentIsWhatTheLayersBelowMakeOfIt(t *testing.T) {
+	each(16, func(s string) {
+		if s != "" && len(flags(flag+s+flag)) == 2 {
+			checkLayers(t, s)
+		}
+	})
+	c := chance(10)
+	for n := range 80 {
+		checkLayers(t, stuffed(plain(c.octets(n+1))))
+	}
+}
+
 func TestHowAStreamIsCutPlaysNoPart(t *testing.T) {
 	c := chance(1)
 	for _, most := range []int{1, 2, 3, 100} {
@@ -397,16 +429,16 @@ func TestNoMoreIsHeldThanMostAndOne(t *testing.T) {
 
 // What Held tells is no more than what is in memory, so that is weighed, too.
 func TestNoMoreIsKeptThanIsHeld(t *testing.T) {
-	const bits = 1 << 24
+	const fed = 1 << 24
 	for _, b := range []byte{0, 1} {
 		d := sync.New(16)
 		chunk := bytes.Repeat([]byte{b}, 1024)
 		before := heap()
-		for range bits / len(chunk) {
+		for range fed / len(chunk) {
 			d.Feed(chunk)
 		}
-		if more := heap() - before; more > bits/16 {
-			t.Errorf("of most 16, behind %d bits of %d: %d bytes more are in use", bits, b, more)
+		if more := heap() - before; more > fed/16 {
+			t.Errorf("of most 16, behind %d bits of %d: %d bytes more are in use", fed, b, more)
 		}
 		d.Feed(nil)
 	}
